@@ -1,0 +1,89 @@
+"""Points [1] to [3]: what holds throughout, and the names and arguments of the interface."""
+
+import copy
+import importlib
+import inspect
+import unittest
+
+from anyvalues.machines import answers, answers_from, beginning, check_machine, holds, read
+from anyvalues.texts import read_machine, write_condition, write_machine
+from helpers import EXAMPLE, TRUE, random_machine
+
+HUGE = 10 ** 5000
+
+# Each function of the interface, with its arguments, under the file that lists it.
+INTERFACE = {
+    "machines": {
+        "check_machine": ["machine"],
+        "holds": ["condition", "value", "held"],
+        "beginning": ["machine"],
+        "read": ["machine", "content", "entry"],
+        "answers": ["machine", "log"],
+        "answers_from": ["machine", "content", "log"],
+    },
+    "texts": {
+        "write_condition": ["condition"],
+        "write_machine": ["machine"],
+        "read_machine": ["text"],
+    },
+}
+
+
+class Interface(unittest.TestCase):
+
+    def test_names_arguments_and_files(self):
+        for file, functions in INTERFACE.items():
+            module = importlib.import_module("anyvalues." + file)
+            for name, arguments in functions.items():
+                function = getattr(module, name)
+                self.assertEqual(list(inspect.signature(function).parameters), arguments, name)
+                self.assertEqual(function.__module__, "anyvalues." + file, name)
+
+
+class Throughout(unittest.TestCase):
+
+    def test_arguments_stay_as_they_are(self):
+        machine = random_machine(3, 2, 3, 2, 3)
+        before = copy.deepcopy(machine)
+        log = [(0, 3), (1, -4), (0, HUGE), (1, 3)]
+        log_before = list(log)
+        content = (1, (4, None, -1))
+        check_machine(machine)
+        read_machine(write_machine(machine))
+        answers(machine, log)
+        answers_from(machine, content, log)
+        read(machine, content, log[0])
+        self.assertEqual(machine, before)
+        self.assertEqual(log, log_before)
+        self.assertEqual(content, (1, (4, None, -1)))
+
+    def test_results_have_no_changeable_part(self):
+        machine = random_machine(3, 2, 3, 2, 3)
+        log = [(0, 3), (1, -4), (0, 8), (1, 3)]
+        for result in (answers(machine, log), read(machine, beginning(machine), log[0]), beginning(machine),
+                       read_machine(write_machine(machine))):
+            hash(result)
+        told = answers(machine, log)
+        kept = copy.deepcopy(told)
+        log.append((0, 9))
+        log[0] = (1, 1)
+        self.assertEqual(told, kept)
+
+    def test_integers_of_any_size(self):
+        machine = (1, 1, ((((("less", 0, -1), (-1,), ((HUGE, 0), (0, -1)), 0), (TRUE, (-1,), (), 0)),),))
+        self.assertIsNone(check_machine(machine))
+        self.assertEqual(answers(machine, ((0, -HUGE), (0, HUGE), (0, HUGE + 1))),
+                         ((), ((HUGE, -HUGE), (0, HUGE)), ((HUGE, HUGE), (0, HUGE + 1))))
+        self.assertTrue(holds(("less", 0, -1), HUGE, (HUGE - 1,)))
+
+    def test_what_is_asked_of_one_machine_does_not_hang_on_another_one(self):
+        log = ((0, 5), (0, 3), (0, 8))
+        first = answers(EXAMPLE, log)
+        for seed in range(20):
+            answers(random_machine(seed, 2, 2, 1, 3), log)
+            write_condition(("all", (("less", 0, -1), TRUE)))
+        self.assertEqual(answers(EXAMPLE, log), first)
+
+
+if __name__ == "__main__":
+    unittest.main()
