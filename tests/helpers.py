@@ -91,3 +91,156 @@ def content_after(machine, log):
 def random_log(dice, tags, length, low, high):
     """A random log with values from low to high."""
     return tuple((dice.randrange(tags), dice.randint(low, high)) for _ in range(length))
+
+
+def tight_values(length):
+    """The values of all tight logs of this length, ascending as tuples."""
+    found = [()]
+    for _ in range(length):
+        longer = []
+        for values in found:
+            many = len(set(values))
+            for rank in range(many):
+                longer.append(values + (rank,))
+            for rank in range(many + 1):
+                longer.append(tuple(value + (value >= rank) for value in values) + (rank,))
+        found = longer
+    return sorted(found)
+
+
+def tight_logs(tags, length):
+    """All tight logs of this length with these tags, ascending as tuples."""
+    found = []
+    for values in tight_values(length):
+        for told in itertools.product(range(tags), repeat=length):
+            found.append(tuple(zip(told, values)))
+    return sorted(found)
+
+
+def worth_of_spot(spot):
+    """A value at the spot, if the values of rank j are 2j + 1: with room between, as points 13 and 19 tell."""
+    return 10 * spot
+
+
+def joint_step(machines, joint, tag, spot):
+    """The joint type after an entry and the answers in spots, from contents with room between the values."""
+    ranks = joint[-1]
+    held = [None if rank is None else worth_of_spot(2 * rank + 1) for rank in ranks]
+    entry = (tag, worth_of_spot(spot))
+    standings, behind, said = [], [], []
+    for machine, standing in zip(machines, joint):
+        mine, held = held[:machine[1]], held[machine[1]:]
+        content, answer = read(machine, (standing, tuple(mine)), entry)
+        standings.append(content[0])
+        behind.extend(content[1])
+        said.append(tuple((told, None if value is None else value // 10) for told, value in answer))
+    lower = {value: rank for rank, value in enumerate(sorted(set(behind) - {None}))}
+    return (*standings, tuple(lower.get(value) for value in behind)), said
+
+
+def joints_by_search(machines, guarded=False):
+    """All joint types that can come about, in the order of point 15, and whether the last two machines part."""
+    first = (0,) * len(machines) + ((None,) * sum(machine[1] for machine in machines),)
+    order, parted = [first], False
+    for joint in order:
+        many = len(set(joint[-1]) - {None})
+        for tag in range(machines[0][0]):
+            for spot in range(2 * many + 1):
+                after, said = joint_step(machines, joint, tag, spot)
+                if guarded and said[0]:
+                    continue
+                parted = parted or said[-2:][0] != said[-1]
+                if after not in order:
+                    order.append(after)
+    return tuple(order), parted
+
+
+# Machines that need several values, and so logs of some length.
+
+def filled(registers, conditions, say=0):
+    """A machine that fills its registers one after the other, then goes on by one condition after the other.
+
+    Each condition stands with its moves; the last one says (say, the value that is read).
+    """
+    steps = []
+    for at in range(registers):
+        moves = tuple(-1 if number == at else number for number in range(registers))
+        steps.append((((TRUE, moves, (), at + 1),),))
+    for at, (condition, moves) in enumerate(conditions):
+        last = at == len(conditions) - 1
+        says = ((say, -1),) if last else ()
+        steps.append((((condition, moves, says, len(steps) + (not last)),),))
+    return (1, registers, tuple(steps))
+
+
+def between(low, high):
+    """The value that is read is greater than that at low and less than that at high."""
+    return ("all", (("less", low, -1), ("less", -1, high)))
+
+
+def random_chain(seed, most=3):
+    """A machine that reaches its last standing only by logs with fitting values."""
+    dice = random.Random(seed)
+    registers = dice.randrange(1, most + 1)
+    fills = dice.randrange(1, registers + 1)
+    standings = fills + dice.randrange(2, 6)
+    steps = []
+    for at in range(standings):
+        if at < fills:
+            moves = tuple(-1 if number >= at else number for number in range(registers))
+            steps.append((((TRUE, moves, (), at + 1),),))
+            continue
+        cases = []
+        for _ in range(dice.randrange(1, 4)):
+            condition = dice.choice((
+                ("less", *dice.sample(range(-1, registers), 2)),
+                ("all", (("less", dice.randrange(registers), -1), ("less", -1, dice.randrange(registers)))),
+                ("all", (("less", -1, dice.randrange(registers)), ("less", -1, dice.randrange(registers)))),
+            ))
+            moves = tuple(
+                number if dice.random() < 0.7 else dice.randrange(-1, registers) for number in range(registers)
+            )
+            says = ((0, dice.randrange(-1, registers)),) if at == standings - 1 else ()
+            cases.append((condition, moves, says, min(at + (dice.random() < 0.8), standings - 1)))
+        steps.append((tuple(cases),))
+    return (1, registers, tuple(steps))
+
+
+def least_by_contents(machines, longest, wanted, lets=lambda contents, entry: True):
+    """The least log at whose last entry something is wanted, by trying all values from 0; None if none is so short.
+
+    wanted and lets are asked with the contents of the machines before an entry, and the entry.
+    """
+    tags = machines[0][0]
+
+    def onward(contents, entry):
+        return tuple(read(machine, content, entry)[0] for machine, content in zip(machines, contents))
+
+    def least_from(contents, left, values, known):
+        """The least log of so many entries, as a tuple, or None."""
+        key = (contents, left)
+        if key not in known:
+            known[key] = None
+            for entry in itertools.product(range(tags), range(values)):
+                if not lets(contents, entry):
+                    continue
+                if left == 1:
+                    rest = () if wanted(contents, entry) else None
+                else:
+                    rest = least_from(onward(contents, entry), left - 1, values, known)
+                if rest is not None:
+                    known[key] = (entry,) + rest
+                    break
+        return known[key]
+
+    first = tuple(beginning(machine) for machine in machines)
+    for length in range(1, longest + 1):
+        log = least_from(first, length, length, {})
+        if log is not None:
+            return log
+    return None
+
+
+def said_at(machines, contents, entry):
+    """What each machine says at the entry."""
+    return [read(machine, content, entry)[1] for machine, content in zip(machines, contents)]

@@ -5,8 +5,12 @@ import importlib
 import inspect
 import unittest
 
+from anyvalues.alike import judge, parting, saying, speaking_alone, told_lot
+from anyvalues.comings import case_log, log_to, relations
 from anyvalues.machines import answers, answers_from, beginning, check_machine, holds, read
+from anyvalues.orders import ranks_of, tight, turned
 from anyvalues.texts import read_machine, write_condition, write_machine
+from anyvalues.types import step_of, type_of, types_of
 from helpers import EXAMPLE, TRUE, random_machine
 
 HUGE = 10 ** 5000
@@ -25,6 +29,31 @@ INTERFACE = {
         "write_condition": ["condition"],
         "write_machine": ["machine"],
         "read_machine": ["text"],
+    },
+    "orders": {
+        "tight": ["log"],
+        "ranks_of": ["held"],
+        "turned": ["machine"],
+    },
+    "types": {
+        "type_of": ["content"],
+        "step_of": ["machine", "kind", "tag", "spot"],
+        "types_of": ["machine"],
+    },
+    "comings": {
+        "log_to": ["machine", "kind"],
+        "case_log": ["machine", "standing", "tag", "case"],
+        "relations": ["machine", "standing", "one", "other"],
+    },
+    "alike": {
+        "parting": ["one", "other"],
+        "told_lot": ["one", "other"],
+        "judge": ["one", "other", "lot"],
+        "parting_under": ["guard", "one", "other"],
+        "told_lot_under": ["guard", "one", "other"],
+        "judge_under": ["guard", "one", "other", "lot"],
+        "saying": ["machine", "tag"],
+        "speaking_alone": ["one", "other"],
     },
 }
 
@@ -53,6 +82,16 @@ class Throughout(unittest.TestCase):
         answers(machine, log)
         answers_from(machine, content, log)
         read(machine, content, log[0])
+        tight(log)
+        turned(machine)
+        type_of(content)
+        for kind in types_of(machine):
+            log_to(machine, kind)
+            step_of(machine, kind, 1, 0)
+        case_log(machine, 0, 1, 0)
+        relations(machine, 0, 0, 1)
+        judge(machine, machine, told_lot(machine, machine))
+        saying(machine, 1)
         self.assertEqual(machine, before)
         self.assertEqual(log, log_before)
         self.assertEqual(content, (1, (4, None, -1)))
@@ -61,7 +100,12 @@ class Throughout(unittest.TestCase):
         machine = random_machine(3, 2, 3, 2, 3)
         log = [(0, 3), (1, -4), (0, 8), (1, 3)]
         for result in (answers(machine, log), read(machine, beginning(machine), log[0]), beginning(machine),
-                       read_machine(write_machine(machine))):
+                       read_machine(write_machine(machine)), tight(log), ranks_of((1, None)), turned(machine),
+                       type_of((0, (3, 1))), types_of(machine), step_of(machine, (0, (None,) * 3), 0, 0),
+                       log_to(machine, types_of(machine)[-1]), relations(machine, 0, 0, 1),
+                       told_lot(machine, machine), saying(EXAMPLE, 1), parting(EXAMPLE, turned(EXAMPLE)),
+                       speaking_alone(EXAMPLE, turned(EXAMPLE)), case_log(EXAMPLE, 0, 0, 1)):
+            self.assertIsNotNone(result)
             hash(result)
         told = answers(machine, log)
         kept = copy.deepcopy(told)

@@ -221,6 +221,8 @@ class BadTexts(unittest.TestCase):
             "not(true", "not(true))", "all", "any", "all(", "all(true", "all(true,)", "all(,true)", "all(true,,true)",
             "all(true)x", "any)", "()", "", "v", "r0", "(true)", "Less(v,r0)", "nor(true)", "true,true", "truefalse",
             "all(true)(true)", "all(x)", "not(less)", "empty((v))", "empty(v))", "all[true]", "1", "less(v,r00)",
+            "less.v,r0)", "same)v,r0)", "empty-v)", "not,true)", "all,true)", "any[true)", "all(true]", "not(true]",
+            "all(true;", "any(true.", "any(all(true],true)", "all(any()true)", "less(v,r00", "empty(vx", "empty(r00",
         ):
             self.bad_line(case_line(condition)[:-1])
 
