@@ -27,9 +27,9 @@ def check_machine(machine):
 def _check_case(case, registers, standings):
     condition, moves, says, following = case
     if not _places_right(condition, registers):
-        raise InvalidMachine("a place in a condition is -1 or a number of a register")
+        raise InvalidMachine("a place in a condition is -1 or one of the registers")
     if len(moves) != registers:
-        raise InvalidMachine("a case has one source for each register")
+        raise InvalidMachine("a case has as many sources as there are registers")
     for source in moves:
         _check_source(source, registers)
     for tag, source in says:
@@ -42,7 +42,7 @@ def _check_case(case, registers, standings):
 
 def _check_source(source, registers):
     if not NOTHING <= source < registers:
-        raise InvalidMachine("a source is -2, -1 or a number of a register")
+        raise InvalidMachine("a source is -2, -1 or one of the registers")
 
 
 def _places_right(condition, registers):
