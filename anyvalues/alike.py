@@ -1,18 +1,17 @@
 """Whether machines say the same on all logs, and what they can say."""
 
 from anyvalues.leastlogs import least_log
-from anyvalues.orders import ranks_of
-from anyvalues.rows import every_step, row_beginning, row_steps, told_joints
+from anyvalues.rows import answers_part, every_step, fits, row_beginning, row_steps, told_joints
 
 
 def parting(one, other):
     """The least log at whose last entry the answers differ, or None if the machines are alike."""
-    return least_log((one, other), every_step, _answers_part)
+    return least_log((one, other), every_step, answers_part)
 
 
 def told_lot(one, other):
     """All joint types that can come about, or None if the machines are not alike."""
-    return told_joints((one, other), every_step, _answers_part)
+    return told_joints((one, other), every_step, answers_part)
 
 
 def judge(one, other, lot):
@@ -22,12 +21,12 @@ def judge(one, other, lot):
 
 def parting_under(guard, one, other):
     """The least parting log that is let by, or None if the machines are alike under the guard."""
-    return least_log((guard, one, other), _guard_silent, _answers_part)
+    return least_log((guard, one, other), _guard_silent, answers_part)
 
 
 def told_lot_under(guard, one, other):
     """All joint types that can come about under the guard, or None if the machines are not alike."""
-    return told_joints((guard, one, other), _guard_silent, _answers_part)
+    return told_joints((guard, one, other), _guard_silent, answers_part)
 
 
 def judge_under(guard, one, other, lot):
@@ -48,10 +47,6 @@ def speaking_alone(one, other):
     return least_log((one, other), every_step, _first_alone)
 
 
-def _answers_part(step):
-    return step.said[-2] != step.said[-1]
-
-
 def _guard_silent(step):
     return step.said[0] == ()
 
@@ -66,19 +61,9 @@ def _lot_right(row, lets, lot):
     if row_beginning(row) not in known:
         return False
     for joint in known:
-        if not _fits(row, joint):
+        if not fits(row, joint):
             return False
         for step in row_steps(row, joint):
-            if lets(step) and (_answers_part(step) or step.after not in known):
+            if lets(step) and (answers_part(step) or step.after not in known):
                 return False
     return True
-
-
-def _fits(row, joint):
-    """True if the tuple is a joint type of the row: a lot for other machines is not right for these."""
-    ranks = joint[-1]
-    if len(joint) != len(row) + 1 or len(ranks) != sum([machine[1] for machine in row]):
-        return False
-    if ranks_of(ranks) != ranks:
-        return False
-    return all(0 <= standing < len(machine[2]) for machine, standing in zip(row, joint))

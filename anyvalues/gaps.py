@@ -59,16 +59,29 @@ def gaps_before(many, spot, kept, gaps):
     return tuple([tuple(row) for row in rows])
 
 
-def _weaker(one, other):
+def weaker(one, other):
     """True if the first gaps ask at most what the other ones ask."""
-    return all(low <= high for lows, highs in zip(one, other) for low, high in zip(lows, highs))
+    for lows, highs in zip(one, other):
+        for low, high in zip(lows, highs):
+            if low > high:
+                return False
+    return True
+
+
+def gaps_there(values, gaps):
+    """True if the values, ascending with BASE in front, are as far apart as the gaps ask."""
+    for high, row in enumerate(gaps):
+        for low, gap in enumerate(row):
+            if values[high] - values[low] < gap:
+                return False
+    return True
 
 
 def with_gaps(found, gaps):
     """The list of gaps with these ones too, without those that ask more than some others in it."""
-    if any(_weaker(other, gaps) for other in found):
+    if any(weaker(other, gaps) for other in found):
         return found
-    return [other for other in found if not _weaker(gaps, other)] + [gaps]
+    return [other for other in found if not weaker(gaps, other)] + [gaps]
 
 
 def least_value(values, spot, kept, gaps):
@@ -84,11 +97,7 @@ def least_value(values, spot, kept, gaps):
     else:
         value = values[new]
         worths = values
-    for high, row in enumerate(rows):
-        for low, gap in enumerate(row):
-            if worths[high] - worths[low] < gap:
-                return None
-    return value
+    return value if gaps_there(worths, rows) else None
 
 
 def values_behind(values, spot, value, kept):

@@ -63,12 +63,12 @@ def _ways_to_goal(into):
             ways[joint].append((step, target))
             found = needs.get(joint, [])
             for gaps in behind:
-                found = with_gaps(found, _gaps_asked(asked, step, gaps))
+                found = with_gaps(found, gaps_asked(asked, step, gaps))
             needs[joint] = found
     return ways, needs
 
 
-def _gaps_asked(asked, step, gaps):
+def gaps_asked(asked, step, gaps):
     """The gaps that a step asks for; asked has those that are known already, as many steps ask for the same."""
     many = different(step.before[-1])
     key = (many, step.spot, step.kept, gaps)
@@ -83,13 +83,13 @@ def _least_way(ways, needs, first):
     joint = first
     values = (BASE,)
     while joint != GOAL:
-        entry, step, joint = _least_onward(ways[joint], needs, values)
+        entry, step, joint = least_onward(ways[joint], needs, values)
         log.append(entry)
         values = values_behind(values, step.spot, entry[1], step.kept)
     return tuple(log)
 
 
-def _least_onward(ways, needs, values):
+def least_onward(ways, needs, values):
     """The least entry from which the goal can be reached, its step and the step's target."""
     best = None
     for step, target in ways:

@@ -34,6 +34,11 @@ def no_step(step):
     return False
 
 
+def answers_part(step):
+    """True if the answers of the last two machines differ."""
+    return step.said[-2] != step.said[-1]
+
+
 def row_beginning(row):
     """The joint type before any entry."""
     registers = sum([machine[1] for machine in row])
@@ -96,3 +101,13 @@ def told_joints(row, lets, faulty):
                 known[step.after] = True
                 told.append(step.after)
     return tuple(told)
+
+
+def fits(row, joint):
+    """True if the tuple is a joint type of the row: a lot for other machines is not right for these."""
+    ranks = joint[-1]
+    if len(joint) != len(row) + 1 or len(ranks) != sum([machine[1] for machine in row]):
+        return False
+    if ranks_of(ranks) != ranks:
+        return False
+    return all(0 <= standing < len(machine[2]) for machine, standing in zip(row, joint))

@@ -7,11 +7,14 @@ import unittest
 
 from anyvalues.alike import judge, parting, saying, speaking_alone, told_lot
 from anyvalues.comings import case_log, log_to, relations
+from anyvalues.least import least_machine
 from anyvalues.machines import answers, answers_from, beginning, check_machine, holds, read
+from anyvalues.needs import kinds_of, needed, one_kind
 from anyvalues.orders import ranks_of, tight, turned
+from anyvalues.rooms import judge_rooms, parting_from, told_rooms
 from anyvalues.texts import read_machine, write_condition, write_machine
 from anyvalues.types import step_of, type_of, types_of
-from helpers import EXAMPLE, TRUE, random_machine
+from helpers import EXAMPLE, TRUE, one_case, random_machine
 
 HUGE = 10 ** 5000
 
@@ -55,6 +58,19 @@ INTERFACE = {
         "saying": ["machine", "tag"],
         "speaking_alone": ["one", "other"],
     },
+    "needs": {
+        "needed": ["machine", "kind"],
+        "one_kind": ["one", "kind", "other", "another"],
+        "kinds_of": ["machine"],
+    },
+    "least": {
+        "least_machine": ["machine"],
+    },
+    "rooms": {
+        "parting_from": ["one", "content", "other", "another"],
+        "judge_rooms": ["one", "content", "other", "another", "lot"],
+        "told_rooms": ["one", "content", "other", "another"],
+    },
 }
 
 
@@ -92,6 +108,12 @@ class Throughout(unittest.TestCase):
         relations(machine, 0, 0, 1)
         judge(machine, machine, told_lot(machine, machine))
         saying(machine, 1)
+        for kind in kinds_of(machine):
+            needed(machine, kind)
+            one_kind(machine, kind, machine, (0, (0, 1, None)))
+        least_machine(machine)
+        parting_from(machine, content, machine, content)
+        judge_rooms(machine, content, machine, content, told_rooms(machine, content, machine, content))
         self.assertEqual(machine, before)
         self.assertEqual(log, log_before)
         self.assertEqual(content, (1, (4, None, -1)))
@@ -104,7 +126,10 @@ class Throughout(unittest.TestCase):
                        type_of((0, (3, 1))), types_of(machine), step_of(machine, (0, (None,) * 3), 0, 0),
                        log_to(machine, types_of(machine)[-1]), relations(machine, 0, 0, 1),
                        told_lot(machine, machine), saying(EXAMPLE, 1), parting(EXAMPLE, turned(EXAMPLE)),
-                       speaking_alone(EXAMPLE, turned(EXAMPLE)), case_log(EXAMPLE, 0, 0, 1)):
+                       speaking_alone(EXAMPLE, turned(EXAMPLE)), case_log(EXAMPLE, 0, 0, 1),
+                       needed(EXAMPLE, (0, (0,))), kinds_of(machine), least_machine(machine),
+                       parting_from(EXAMPLE, (0, (3,)), EXAMPLE, (0, (None,))),
+                       told_rooms(EXAMPLE, (0, (3,)), EXAMPLE, (0, (3,)))):
             self.assertIsNotNone(result)
             hash(result)
         told = answers(machine, log)
@@ -119,6 +144,9 @@ class Throughout(unittest.TestCase):
         self.assertEqual(answers(machine, ((0, -HUGE), (0, HUGE), (0, HUGE + 1))),
                          ((), ((HUGE, -HUGE), (0, HUGE)), ((HUGE, HUGE), (0, HUGE + 1))))
         self.assertTrue(holds(("less", 0, -1), HUGE, (HUGE - 1,)))
+        self.assertEqual(least_machine(one_case(TRUE, (), ((HUGE, -1),)))[2][0][0][0][2], ((HUGE, -1),))
+        self.assertEqual(parting_from(EXAMPLE, (0, (HUGE,)), EXAMPLE, (0, (HUGE + 1,))), ((0, HUGE + 1),))
+        self.assertIsNotNone(told_rooms(EXAMPLE, (0, (HUGE,)), EXAMPLE, (0, (HUGE,))))
 
     def test_what_is_asked_of_one_machine_does_not_hang_on_another_one(self):
         log = ((0, 5), (0, 3), (0, 8))
