@@ -13,18 +13,23 @@ def at_least(rooms, others):
 
 def rooms_behind(step, rooms):
     """All rooms that can be there after the step, a list; empty if there is no room for its spot."""
+    return rooms_left(step.spot, step.kept, rooms)
+
+
+def rooms_left(spot, kept, rooms):
+    """All rooms that can be there after a value at the spot, if the kept spots are held then, a list."""
     names = [2 * rank + 1 for rank in range(len(rooms))]
-    if step.spot % 2 == 1:
-        return [_joined(names, rooms, step.kept)]
-    at = step.spot // 2
-    names.insert(at, step.spot)
+    if spot % 2 == 1:
+        return [_joined(names, rooms, kept)]
+    at = spot // 2
+    names.insert(at, spot)
     if at == len(rooms):
-        return [_joined(names, (*rooms, None), step.kept)]
+        return [_joined(names, (*rooms, None), kept)]
     parts = _parts(rooms[at])
-    if step.spot not in step.kept:
+    if spot not in kept:
         # The parts become one room again, however the value parts it.
         parts = parts[:1]
-    return [_joined(names, (*rooms[:at], *part, *rooms[at + 1:]), step.kept) for part in parts]
+    return [_joined(names, (*rooms[:at], *part, *rooms[at + 1:]), kept) for part in parts]
 
 
 def _parts(room):

@@ -283,3 +283,50 @@ def room_chain(seed, registers, standings):
             cases.append((condition, tuple(moves), ((0, -1),) * (standing == standings - 1), following))
         steps.append((tuple(cases),))
     return (1, registers, tuple(steps))
+
+
+def read_beside(one, content, other, another, entry):
+    """The contents and the answer of two machines beside one another."""
+    content, said = read(one, content, entry)
+    another, also = read(other, another, entry)
+    return content, another, said + also
+
+
+def read_behind(one, content, other, another, entry):
+    """The contents and the answer of the machine other behind the machine one."""
+    content, said = read(one, content, entry)
+    answer = ()
+    for tag, value in said:
+        if tag < other[0] and value is not None:
+            another, also = read(other, another, (tag, value))
+            answer += also
+    return content, another, answer
+
+
+def some_content(dice, machine, high=6):
+    """A content that may come about or not, with values near each other."""
+    values = [dice.choice([None, *range(high), *range(high)]) for _ in range(machine[1])]
+    return (dice.randrange(len(machine[2])), tuple(values))
+
+
+def talking_machine(seed, registers, says, cases=2, tags=1, said=1):
+    """A machine with one standing that says so many entries at once; the same one for the same seed."""
+    dice = random.Random(seed)
+
+    def case():
+        pair = dice.sample(range(-1, registers), 2)
+        condition = dice.choice((("less", *pair), ("not", ("less", *pair)), ("same", *pair), ("empty", pair[0]), TRUE))
+        moves = tuple(dice.choice((-1, at, at)) for at in range(registers))
+        told = tuple((dice.randrange(said), dice.choice((-2, -1, *range(registers)))) for _ in range(says))
+        return (condition, moves, told, 0)
+
+    return (tags, registers, (tuple(tuple(case() for _ in range(cases)) for _ in range(tags)),))
+
+
+def at_once(answers, numbers):
+    """The answers put together: so many of them at each entry."""
+    told, start = [], 0
+    for number in numbers:
+        told.append(tuple(itertools.chain.from_iterable(answers[start:start + number])))
+        start += number
+    return tuple(told)

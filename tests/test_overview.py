@@ -6,7 +6,10 @@ import inspect
 import unittest
 
 from anyvalues.alike import judge, parting, saying, speaking_alone, told_lot
+from anyvalues.built import band, records, runs, top_list, turning_points
 from anyvalues.comings import case_log, log_to, relations
+from anyvalues.counts import count_saying, orders
+from anyvalues.joining import behind, beside
 from anyvalues.least import least_machine
 from anyvalues.machines import answers, answers_from, beginning, check_machine, holds, read
 from anyvalues.needs import kinds_of, needed, one_kind
@@ -14,6 +17,7 @@ from anyvalues.orders import ranks_of, tight, turned
 from anyvalues.rooms import judge_rooms, parting_from, told_rooms
 from anyvalues.texts import read_machine, write_condition, write_machine
 from anyvalues.types import step_of, type_of, types_of
+from anyvalues.works import Works, replayed
 from helpers import EXAMPLE, TRUE, one_case, random_machine
 
 HUGE = 10 ** 5000
@@ -71,6 +75,33 @@ INTERFACE = {
         "judge_rooms": ["one", "content", "other", "another", "lot"],
         "told_rooms": ["one", "content", "other", "another"],
     },
+    "counts": {
+        "orders": ["n"],
+        "count_saying": ["machine", "tag", "n"],
+    },
+    "joining": {
+        "beside": ["one", "other"],
+        "behind": ["one", "other"],
+    },
+    "built": {
+        "records": [],
+        "top_list": ["k"],
+        "band": [],
+        "turning_points": [],
+        "runs": [],
+    },
+    "works": {
+        "replayed": ["journal"],
+    },
+}
+
+# The methods of the interface's class, with their arguments.
+WORKS = {
+    "do": ["self", "deed"],
+    "names": ["self"],
+    "machine": ["self", "name"],
+    "parting": ["self", "one", "other"],
+    "journal": ["self"],
 }
 
 
@@ -83,6 +114,11 @@ class Interface(unittest.TestCase):
                 function = getattr(module, name)
                 self.assertEqual(list(inspect.signature(function).parameters), arguments, name)
                 self.assertEqual(function.__module__, "anyvalues." + file, name)
+
+    def test_methods_of_works(self):
+        self.assertEqual(Works.__module__, "anyvalues.works")
+        for name, arguments in WORKS.items():
+            self.assertEqual(list(inspect.signature(vars(Works)[name]).parameters), arguments, name)
 
 
 class Throughout(unittest.TestCase):
@@ -114,6 +150,12 @@ class Throughout(unittest.TestCase):
         least_machine(machine)
         parting_from(machine, content, machine, content)
         judge_rooms(machine, content, machine, content, told_rooms(machine, content, machine, content))
+        count_saying(machine, 0, 3)
+        beside(machine, machine)
+        behind(machine, machine)
+        journal = [("put", "a", machine), ("turn", "a"), ("undo",)]
+        self.assertEqual(replayed(journal).machine("a"), machine)
+        self.assertEqual(journal, [("put", "a", before), ("turn", "a"), ("undo",)])
         self.assertEqual(machine, before)
         self.assertEqual(log, log_before)
         self.assertEqual(content, (1, (4, None, -1)))
@@ -129,7 +171,10 @@ class Throughout(unittest.TestCase):
                        speaking_alone(EXAMPLE, turned(EXAMPLE)), case_log(EXAMPLE, 0, 0, 1),
                        needed(EXAMPLE, (0, (0,))), kinds_of(machine), least_machine(machine),
                        parting_from(EXAMPLE, (0, (3,)), EXAMPLE, (0, (None,))),
-                       told_rooms(EXAMPLE, (0, (3,)), EXAMPLE, (0, (3,)))):
+                       told_rooms(EXAMPLE, (0, (3,)), EXAMPLE, (0, (3,))),
+                       beside(machine, machine), behind(machine, machine), records(), top_list(3), band(),
+                       turning_points(), runs(), orders(60), count_saying(machine, 1, 4), Works().names(),
+                       replayed([("put", "a", machine)]).journal()):
             self.assertIsNotNone(result)
             hash(result)
         told = answers(machine, log)
@@ -147,6 +192,9 @@ class Throughout(unittest.TestCase):
         self.assertEqual(least_machine(one_case(TRUE, (), ((HUGE, -1),)))[2][0][0][0][2], ((HUGE, -1),))
         self.assertEqual(parting_from(EXAMPLE, (0, (HUGE,)), EXAMPLE, (0, (HUGE + 1,))), ((0, HUGE + 1),))
         self.assertIsNotNone(told_rooms(EXAMPLE, (0, (HUGE,)), EXAMPLE, (0, (HUGE,))))
+        both = behind(EXAMPLE, one_case(TRUE, (), ((HUGE, -1),)))
+        self.assertEqual(answers(both, ((0, HUGE), (0, -HUGE))), (((HUGE, HUGE),), ()))
+        self.assertEqual(count_saying(both, HUGE, 2), 1)
 
     def test_what_is_asked_of_one_machine_does_not_hang_on_another_one(self):
         log = ((0, 5), (0, 3), (0, 8))

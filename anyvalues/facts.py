@@ -1,0 +1,156 @@
+"""What is known of the places of a machine, if some conditions hold and others do not.
+
+It serves to leave out cases that can never be carried out. Not all that follows is found: where a
+condition can hold in several ways, none of them is tried out.
+"""
+
+from anyvalues.machines import NEW
+
+
+class Facts:
+    """Places that hold a value or are empty, how held values compare, and what is still open.
+
+    held has True or False for each place of which this is known. order has, for a pair of places,
+    True if the value at the first one is less, False if it is less or the same. What is open are
+    pairs of a condition and True or False, as it holds or not.
+    """
+
+    def __init__(self, held, order, still_open):
+        self._held = held
+        self._order = order
+        self._open = still_open
+        self._news = False
+
+    def assuming(self, condition, wanted):
+        """The facts if the condition holds as well, or does not, as wanted; None if that cannot be."""
+        order = {pair: self._order[pair] for pair in self._order}
+        grown = Facts(dict(self._held), order, list(self._open))
+        return grown if grown._all_taken([(condition, wanted)]) else None
+
+    def truth(self, condition):
+        """True or False if it is known whether the condition holds, else None."""
+        word = condition[0]
+        if word in ("true", "false"):
+            return word == "true"
+        if word == "not":
+            inner = self.truth(condition[1])
+            return None if inner is None else not inner
+        if word in ("all", "any"):
+            decisive = word == "any"
+            truths = [self.truth(part) for part in condition[1]]
+            if decisive in truths:
+                return decisive
+            return None if None in truths else not decisive
+        holding = [self._holds_value(place) for place in condition[1:]]
+        if word == "empty":
+            return None if holding[0] is None else not holding[0]
+        if False in holding:
+            return False
+        return self._compared(word, condition[1], condition[2], None not in holding)
+
+    def _holds_value(self, place):
+        return True if place == NEW else self._held.get(place)
+
+    def _compared(self, word, one, other, both_held):
+        """Whether "less" or "same" holds for two places, None if it is not known."""
+        if one == other:
+            if word == "less":
+                return False
+            return True if both_held else None
+        below = self._order.get((one, other))
+        above = self._order.get((other, one))
+        if word == "less":
+            if above is not None:
+                return False
+            return True if below else None
+        if below or above:
+            return False
+        return None if below is None or above is None else True
+
+    def _all_taken(self, told):
+        """Adds all that follows from what is told; False if that cannot be."""
+        while told:
+            for condition, wanted in told:
+                if not self._taken(condition, wanted):
+                    return False
+            told = []
+            if self._news:
+                # What was open may be decided now.
+                self._news = False
+                told = self._open
+                self._open = []
+        return True
+
+    def _taken(self, condition, wanted):
+        known = self.truth(condition)
+        if known is not None:
+            return known == wanted
+        word = condition[0]
+        if word == "not":
+            return self._taken(condition[1], not wanted)
+        if word in ("all", "any"):
+            return self._parts_taken(condition, wanted)
+        if word == "empty":
+            self._hold(condition[1], not wanted)
+        elif wanted:
+            self._compare(word, condition[1], condition[2])
+        else:
+            self._compare_not(condition)
+        return True
+
+    def _parts_taken(self, condition, wanted):
+        if (condition[0] == "all") == wanted:
+            return all([self._taken(part, wanted) for part in condition[1]])
+        undecided = [part for part in condition[1] if self.truth(part) is None]
+        if len(undecided) == 1:
+            return self._taken(undecided[0], wanted)
+        self._open.append((condition, wanted))
+        return True
+
+    def _hold(self, place, holding):
+        if self._holds_value(place) is None:
+            self._held[place] = holding
+            self._news = True
+
+    def _compare(self, word, one, other):
+        """Adds that "less" or "same" holds for two places."""
+        self._hold(one, True)
+        self._hold(other, True)
+        self._put(one, other, word == "less")
+        if word == "same":
+            self._put(other, one, False)
+
+    def _compare_not(self, condition):
+        """Adds that "less" or "same" does not hold for two places."""
+        word, one, other = condition
+        if not (self._holds_value(one) and self._holds_value(other)):
+            self._open.append((condition, False))
+        elif word == "less":
+            self._put(other, one, False)
+        elif (one, other) in self._order:
+            self._put(one, other, True)
+        elif (other, one) in self._order:
+            self._put(other, one, True)
+        else:
+            self._open.append((condition, False))
+
+    def _put(self, one, other, less):
+        """Adds that the first value is less, or else not greater, and what follows with other values."""
+        lower = [(one, less)]
+        upper = [(other, False)]
+        for pair, surely in self._order.items():
+            if pair[1] == one:
+                lower.append((pair[0], less or surely))
+            if pair[0] == other:
+                upper.append((pair[1], surely))
+        for low, surely in lower:
+            for high, too in upper:
+                known = self._order.get((low, high))
+                if low != high and (known is None or (surely or too) and not known):
+                    self._order[(low, high)] = surely or too
+                    self._news = True
+
+
+def no_facts():
+    """Nothing is known."""
+    return Facts({}, {}, [])
