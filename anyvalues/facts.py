@@ -8,23 +8,26 @@ from anyvalues.machines import NEW
 
 
 class Facts:
-    """Places that hold a value or are empty, how held values compare, and what is still open.
+    """Places that hold a value or are empty, how held values compare, and what else is told.
 
     held has True or False for each place of which this is known. order has, for a pair of places,
-    True if the value at the first one is less, False if it is less or the same. What is open are
-    pairs of a condition and True or False, as it holds or not.
+    True if the value at the first one is less, False if it is less or the same. denied has the
+    conditions "less" and "same" that do not hold. What is unsettled are pairs of a condition "all" or
+    "any" and True or False, as it holds or not.
     """
 
-    def __init__(self, held, order, still_open):
+    def __init__(self, held, order, denied, unsettled):
         self._held = held
         self._order = order
-        self._open = still_open
+        self._denied = denied
+        self._unsettled = unsettled
         self._news = False
 
     def assuming(self, condition, wanted):
         """The facts if the condition holds as well, or does not, as wanted; None if that cannot be."""
         order = {pair: self._order[pair] for pair in self._order}
-        grown = Facts(dict(self._held), order, list(self._open))
+        denied = {told: True for told in self._denied}
+        grown = Facts(dict(self._held), order, denied, list(self._unsettled))
         return grown if grown._all_taken([(condition, wanted)]) else None
 
     def truth(self, condition):
@@ -41,22 +44,25 @@ class Facts:
             if decisive in truths:
                 return decisive
             return None if None in truths else not decisive
-        holding = [self._holds_value(place) for place in condition[1:]]
         if word == "empty":
-            return None if holding[0] is None else not holding[0]
-        if False in holding:
-            return False
-        return self._compared(word, condition[1], condition[2], None not in holding)
+            holding = self._holds_value(condition[1])
+            return None if holding is None else not holding
+        known = self._compared(condition)
+        return False if known is None and condition in self._denied else known
 
     def _holds_value(self, place):
         return True if place == NEW else self._held.get(place)
 
-    def _compared(self, word, one, other, both_held):
-        """Whether "less" or "same" holds for two places, None if it is not known."""
+    def _compared(self, condition):
+        """Whether "less" or "same" holds as what is held tells, None if it does not tell."""
+        word, one, other = condition
+        holding = [self._holds_value(one), self._holds_value(other)]
+        if False in holding:
+            return False
         if one == other:
             if word == "less":
                 return False
-            return True if both_held else None
+            return None if None in holding else True
         below = self._order.get((one, other))
         above = self._order.get((other, one))
         if word == "less":
@@ -75,27 +81,27 @@ class Facts:
                     return False
             told = []
             if self._news:
-                # What was open may be decided now.
+                # More may follow now from what was told before.
                 self._news = False
-                told = self._open
-                self._open = []
+                told = [(condition, False) for condition in self._denied] + self._unsettled
+                self._unsettled = []
         return True
 
     def _taken(self, condition, wanted):
+        word = condition[0]
+        if word in ("less", "same") and not wanted:
+            return self._deny(condition)
         known = self.truth(condition)
         if known is not None:
             return known == wanted
-        word = condition[0]
         if word == "not":
             return self._taken(condition[1], not wanted)
         if word in ("all", "any"):
             return self._parts_taken(condition, wanted)
         if word == "empty":
             self._hold(condition[1], not wanted)
-        elif wanted:
-            self._compare(word, condition[1], condition[2])
         else:
-            self._compare_not(condition)
+            self._compare(condition)
         return True
 
     def _parts_taken(self, condition, wanted):
@@ -104,7 +110,7 @@ class Facts:
         undecided = [part for part in condition[1] if self.truth(part) is None]
         if len(undecided) == 1:
             return self._taken(undecided[0], wanted)
-        self._open.append((condition, wanted))
+        self._unsettled.append((condition, wanted))
         return True
 
     def _hold(self, place, holding):
@@ -112,27 +118,33 @@ class Facts:
             self._held[place] = holding
             self._news = True
 
-    def _compare(self, word, one, other):
-        """Adds that "less" or "same" holds for two places."""
+    def _compare(self, condition):
+        """Adds that "less" or "same" holds."""
+        word, one, other = condition
         self._hold(one, True)
         self._hold(other, True)
         self._put(one, other, word == "less")
         if word == "same":
             self._put(other, one, False)
 
-    def _compare_not(self, condition):
-        """Adds that "less" or "same" does not hold for two places."""
+    def _deny(self, condition):
+        """Adds that "less" or "same" does not hold; False if it surely does."""
         word, one, other = condition
+        known = self._compared(condition)
+        if known is not None:
+            return not known
+        if condition not in self._denied:
+            self._denied[condition] = True
+            self._news = True
         if not (self._holds_value(one) and self._holds_value(other)):
-            self._open.append((condition, False))
-        elif word == "less":
+            return True
+        if word == "less":
             self._put(other, one, False)
         elif (one, other) in self._order:
             self._put(one, other, True)
         elif (other, one) in self._order:
             self._put(other, one, True)
-        else:
-            self._open.append((condition, False))
+        return True
 
     def _put(self, one, other, less):
         """Adds that the first value is less, or else not greater, and what follows with other values."""
@@ -153,4 +165,4 @@ class Facts:
 
 def no_facts():
     """Nothing is known."""
-    return Facts({}, {}, [])
+    return Facts({}, {}, {}, [])

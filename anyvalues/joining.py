@@ -167,10 +167,11 @@ def _all_of(conditions):
     """The condition that all these hold, without needless parts and depth."""
     parts = []
     for condition in conditions:
-        parts.extend(condition[1] if condition[0] == "all" else (condition,))
-    if FALSE in parts:
-        return FALSE
-    parts = [part for part in parts if part != TRUE]
+        for part in condition[1] if condition[0] == "all" else (condition,):
+            if part == FALSE:
+                return FALSE
+            if part != TRUE and part not in parts:
+                parts.append(part)
     if len(parts) == 1:
         return parts[0]
     return ("all", tuple(parts)) if parts else TRUE

@@ -2,6 +2,7 @@
 
 import random
 import unittest
+from unittest import mock
 
 from anyvalues.machines import answers_from
 from anyvalues.rooms import judge_rooms, parting_from, told_rooms
@@ -93,6 +94,31 @@ class PartingFrom(unittest.TestCase):
         # The tag counts before the value.
         machine = (2, 1, ((((ABOVE, (0,), ((0, -1),), 0),), quick),))
         self.assertEqual(parting_from(machine, (0, (9,)), silent(2), NOTHING), ((0, 10),))
+
+    def test_by_few_joint_types_or_by_many(self):
+        # With the tag 0 the held values move up until there is room; with the tag 1 it goes straight on.
+        def with_tag_1(following, says=()):
+            return ((), ((TRUE, tuple(range(many)), says, following),))
+
+        for many in (3, 4, 5, 6):
+            moves = (*range(1, many), -1)
+            near = ((between(0, 1), tuple(range(many)), ((0, -1),), 0), (("less", many - 1, -1), moves, (), 0))
+            climb = tuple((0, value) for value in range(many + 1, 2 * many)) + ((0, many),)
+            for straight in range(1, 8):
+                steps = [with_tag_1(at + 1) for at in range(straight - 1)] + [with_tag_1(0, ((0, -1),))]
+                machine = (2, many, ((near, steps[0][1]), *steps[1:]))
+                for few in (1, 2, 5, 100):
+                    with mock.patch("anyvalues.partings.FEW", few):
+                        told = parting_from(machine, (0, tuple(range(many))), silent(2), NOTHING)
+                    self.assertEqual(told, climb if many <= straight else ((1, 0),) * straight)
+
+    def test_looked_at_from_the_first_joint_type_on(self):
+        # However many joint types are looked at before it is asked what parts the machines, the least log is told.
+        for seed, one, content, other, another in some_questions(120):
+            told = parting_from(one, content, other, another)
+            for few in (1, 3, 10):
+                with mock.patch("anyvalues.partings.FEW", few):
+                    self.assertEqual(parting_from(one, content, other, another), told, seed)
 
     def test_the_machines_exchanged(self):
         for seed in range(60):
@@ -323,6 +349,35 @@ class ToldRooms(unittest.TestCase):
             self.assertTrue(judge_rooms(up, (2, (low, high)), SILENT, NOTHING, told))
         for low, high in ((0, 6), (4, 10 ** 20)):
             self.assertIsNone(told_rooms(up, (2, (low, high)), SILENT, NOTHING))
+
+    def test_rooms_that_count_together(self):
+        # Something is said only if a value falls below all, and so many between the two values.
+        for many in (1, 2, 3):
+            machine = filled(2, [(BELOW, (0, 1))] + [(between(0, 1), (-1, 1))] * many)
+            # And only if one falls between the first two of three values, or so many above them.
+            other = filled(3, [(between(0, 1), (0, 1, 2))] + [(between(1, 2), (0, -1, 2))] * many)
+            for low in range(3):
+                for high in range(6):
+                    parts = low >= 1 and high - low - 1 >= many
+                    self.check(machine, (2, (low, high)), parts)
+                    self.check(other, (3, (low, high, 5)), high - low >= 2 and 4 - high >= many)
+
+    def check(self, machine, content, parts):
+        """A right lot is told, unless the machine can say something from the content on."""
+        told = told_rooms(machine, content, SILENT, NOTHING)
+        self.assertEqual(told is None, parts, content)
+        if told is not None:
+            self.assertTrue(judge_rooms(machine, content, SILENT, NOTHING, told))
+            self.assertTrue(slow_judge_rooms(machine, content, SILENT, NOTHING, told), (content, told))
+
+    def test_rooms_that_grow(self):
+        # The middle one of three values is forgotten, then so many must fall between the other ones.
+        for many in range(1, 5):
+            machine = filled(3, [(TRUE, (0, -2, 2))] + [(between(0, 2), (-1, 1, 2))] * many)
+            for low in range(3):
+                for middle in range(3):
+                    content = (3, (1, 2 + low, 3 + low + middle))
+                    self.check(machine, content, low + middle + 1 >= many)
 
     def test_values_far_apart(self):
         keeps = one_case(between(1, 0), (0, 1), ((0, -1),))
