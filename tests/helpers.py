@@ -244,3 +244,46 @@ def least_by_contents(machines, longest, wanted, lets=lambda contents, entry: Tr
 def said_at(machines, contents, entry):
     """What each machine says at the entry."""
     return [read(machine, content, entry)[1] for machine, content in zip(machines, contents)]
+
+
+def made_of_tuples(value):
+    """True if the value is made of tuples, integers, strings and None alone."""
+    if type(value) is tuple:
+        return all(made_of_tuples(part) for part in value)
+    return value is None or type(value) in (int, str)
+
+
+def ranks_among(values):
+    """The ranks of values among each other."""
+    order = sorted(set(values))
+    return tuple(order.index(value) for value in values)
+
+
+def renamed(machine, standings, registers):
+    """The machine with other numbers of its standings, 0 staying 0, and of its registers, and a register more.
+
+    standings and registers tell for each number the new one.
+    """
+    tags, many, steps = machine
+    place = lambda source: source if source < 0 else registers[source]
+
+    def condition_of(condition):
+        word = condition[0]
+        if word == "not":
+            return (word, condition_of(condition[1]))
+        if word in ("all", "any"):
+            return (word, tuple(condition_of(part) for part in condition[1]))
+        return (word, *(place(source) for source in condition[1:]))
+
+    def case_of(case):
+        condition, moves, says, following = case
+        placed = [-1] * (many + 1)
+        for at, source in enumerate(moves):
+            placed[registers[at]] = place(source)
+        said = tuple((tag, place(source)) for tag, source in says)
+        return (condition_of(condition), tuple(placed), said, standings[following])
+
+    placed = [None] * len(steps)
+    for at, standing in enumerate(steps):
+        placed[standings[at]] = tuple(tuple(case_of(case) for case in cases) for cases in standing)
+    return (tags, many + 1, tuple(placed))
