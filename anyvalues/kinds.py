@@ -6,7 +6,9 @@ one step at what is known of the types behind it. It ends when one entry more te
 """
 
 from anyvalues.machines import NEW
+from anyvalues.orders import held_values
 from anyvalues.rows import different, row_beginning, row_steps
+from anyvalues.types import type_of
 
 
 class Look:
@@ -24,27 +26,45 @@ class Look:
 class Kinds:
     """The types that given types of given machines lead to, with their needed ranks and their kinds.
 
-    A node is a pair of the number of a machine and a type of it.
+    A node is a pair of the number of a machine and a type of it. What fewer entries tell than are
+    needed to tell all is kept if keeping is True.
     """
 
-    def __init__(self, machines, starts):
+    def __init__(self, machines, starts, keeping):
         self._machines = machines
         self._nodes = list(starts)
         self._number = {node: number for number, node in enumerate(self._nodes)}
         self._looks = []
         self._explore()
-        self._needs = [()] * len(self._nodes)
-        self._kinds = [0] * len(self._nodes)
-        while self._refine():
-            pass
+        # The needed ranks and the kinds of all nodes as far as no entry tells them, then one entry, and so on.
+        self._levels = [([()] * len(self._nodes), [0] * len(self._nodes))]
+        level = self._one_entry_more()
+        while level != self._levels[-1]:
+            self._levels = [*self._levels, level] if keeping else [level]
+            level = self._one_entry_more()
 
     def needed(self, node):
         """The needed ranks of the type, ascending."""
-        return self._needs[self._number[node]]
+        return self._levels[-1][0][self._number[node]]
 
     def kind(self, node):
         """The number of the kind of the type: the same one exactly for types of one kind."""
-        return self._kinds[self._number[node]]
+        return self._levels[-1][1][self._number[node]]
+
+    def entries(self):
+        """The number of entries that are enough to part all that can be parted; told if all is kept."""
+        return len(self._levels) - 1
+
+    def apart(self, one, other, entries):
+        """True if at most so many entries part two contents of the first machine, with room enough between values."""
+        return self._told_of(one, entries) != self._told_of(other, entries)
+
+    def _told_of(self, content, entries):
+        """The kind and the needed values of a content, as far as so many entries tell them."""
+        needs, kinds = self._levels[entries]
+        number = self._number[(0, type_of(content))]
+        values = held_values(content[1])
+        return (kinds[number], [values[rank] for rank in needs[number]])
 
     def _explore(self):
         at = 0
@@ -64,21 +84,18 @@ class Kinds:
         said = tuple([(tag, _source(step, spot)) for tag, spot in step.said[0]])
         return Look(said, self._number[node], tuple([_source(step, spot) for spot in step.kept]))
 
-    def _refine(self):
-        """Looks through one entry more; True if that tells anything new."""
+    def _one_entry_more(self):
+        """The needed ranks and the kinds of all nodes, as one entry more tells them."""
         seen = [[[self._seen(look) for look in looks] for looks in tags] for tags in self._looks]
         needs = [_needed(tags) for tags in seen]
         number = {}
         kinds = [number.setdefault(_shown(tags, ranks), len(number)) for tags, ranks in zip(seen, needs)]
-        news = needs != self._needs or kinds != self._kinds
-        self._needs = needs
-        self._kinds = kinds
-        return news
+        return (needs, kinds)
 
     def _seen(self, look):
         """The answer, the kind behind the step and where its needed values are from."""
-        needs = self._needs[look.behind]
-        return (look.said, self._kinds[look.behind], tuple([look.sources[rank] for rank in needs]))
+        needs, kinds = self._levels[-1]
+        return (look.said, kinds[look.behind], tuple([look.sources[rank] for rank in needs[look.behind]]))
 
 
 def _source(step, spot):
@@ -131,9 +148,14 @@ def lowest_spot(ranks, spot):
 
 def kinds_from(machines, starts):
     """The kinds of the types that the starts, pairs of the number of a machine and a type, lead to."""
-    return Kinds(machines, list({start: True for start in starts}))
+    return Kinds(machines, list({start: True for start in starts}), False)
 
 
 def kinds_that_come_about(machine):
     """The kinds of the types that can come about."""
     return kinds_from((machine,), ((0, row_beginning((machine,))),))
+
+
+def kinds_kept(machine):
+    """The kinds of the types that can come about, and what fewer entries tell of them."""
+    return Kinds((machine,), ((0, row_beginning((machine,))),), True)

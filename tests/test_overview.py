@@ -1,21 +1,30 @@
 """Points [1] to [3]: what holds throughout, and the names and arguments of the interface."""
 
+import ast
 import copy
 import importlib
 import inspect
+import pathlib
 import unittest
 
 from anyvalues.alike import judge, parting, saying, speaking_alone, told_lot
 from anyvalues.built import band, records, runs, top_list, turning_points
+from anyvalues.changes import doubling_matters, dropping_matters, falling, swapping_matters
 from anyvalues.comings import case_log, log_to, relations
 from anyvalues.counts import count_saying, orders
+from anyvalues.groups import groups_of
 from anyvalues.joining import behind, beside
 from anyvalues.least import least_machine
+from anyvalues.logtexts import read_log, write_log
 from anyvalues.machines import answers, answers_from, beginning, check_machine, holds, read
 from anyvalues.needs import kinds_of, needed, one_kind
+from anyvalues.numbers import log_of_number, number_of_log
 from anyvalues.orders import ranks_of, tight, turned
 from anyvalues.rooms import judge_rooms, parting_from, told_rooms
+from anyvalues.spotting import spotter
 from anyvalues.texts import read_machine, write_condition, write_machine
+from anyvalues.traces import log_of_spots, spots_along, trace, type_behind
+from anyvalues.trimming import trimmed
 from anyvalues.types import step_of, type_of, types_of
 from anyvalues.works import Works, replayed
 from helpers import EXAMPLE, TRUE, one_case, random_machine
@@ -93,7 +102,39 @@ INTERFACE = {
     "works": {
         "replayed": ["journal"],
     },
+    "spotting": {
+        "spotter": ["pattern"],
+    },
+    "trimming": {
+        "trimmed": ["machine"],
+    },
+    "numbers": {
+        "log_of_number": ["n", "number"],
+        "number_of_log": ["log"],
+    },
+    "changes": {
+        "doubling_matters": ["machine"],
+        "dropping_matters": ["machine"],
+        "swapping_matters": ["machine"],
+        "falling": ["machine", "tag"],
+    },
+    "groups": {
+        "groups_of": ["machines"],
+    },
+    "logtexts": {
+        "write_log": ["log"],
+        "read_log": ["text"],
+    },
+    "traces": {
+        "trace": ["machine", "log"],
+        "spots_along": ["machine", "log"],
+        "type_behind": ["machine", "spots"],
+        "log_of_spots": ["machine", "spots"],
+    },
 }
+
+# The errors of the interface, each a direct subclass of the first one.
+ERRORS = ("ValuesError", "InvalidMachine", "BadText", "NoMachine", "NothingToUndo", "NothingToRedo")
 
 # The methods of the interface's class, with their arguments.
 WORKS = {
@@ -114,6 +155,24 @@ class Interface(unittest.TestCase):
                 function = getattr(module, name)
                 self.assertEqual(list(inspect.signature(function).parameters), arguments, name)
                 self.assertEqual(function.__module__, "anyvalues." + file, name)
+
+    def test_errors_stand_in_their_file(self):
+        module = importlib.import_module("anyvalues.errors")
+        for name in ERRORS:
+            error = getattr(module, name)
+            self.assertEqual(error.__module__, "anyvalues.errors")
+            self.assertEqual(error.__bases__, (ValueError,) if name == "ValuesError" else (module.ValuesError,))
+
+    def test_what_the_interface_lists_is_defined_in_its_file(self):
+        package = pathlib.Path(__file__).resolve().parent.parent / "anyvalues"
+        listed = {file: list(functions) for file, functions in INTERFACE.items()}
+        listed["works"].append("Works")
+        listed["errors"] = list(ERRORS)
+        for file, names in listed.items():
+            tree = ast.parse((package / (file + ".py")).read_text())
+            defined = [node.name for node in tree.body if isinstance(node, (ast.FunctionDef, ast.ClassDef))]
+            for name in names:
+                self.assertIn(name, defined, file)
 
     def test_methods_of_works(self):
         self.assertEqual(Works.__module__, "anyvalues.works")
@@ -153,6 +212,19 @@ class Throughout(unittest.TestCase):
         count_saying(machine, 0, 3)
         beside(machine, machine)
         behind(machine, machine)
+        trimmed(machine)
+        doubling_matters(machine)
+        dropping_matters(machine)
+        swapping_matters(machine)
+        falling(machine, 0)
+        groups_of((machine, machine))
+        read_log(write_log(log[:2]))
+        trace(machine, log)
+        spots = list(spots_along(machine, log))
+        spots_before = list(spots)
+        type_behind(machine, spots)
+        log_of_spots(machine, spots)
+        self.assertEqual(spots, spots_before)
         journal = [("put", "a", machine), ("turn", "a"), ("undo",)]
         self.assertEqual(replayed(journal).machine("a"), machine)
         self.assertEqual(journal, [("put", "a", before), ("turn", "a"), ("undo",)])
@@ -174,7 +246,12 @@ class Throughout(unittest.TestCase):
                        told_rooms(EXAMPLE, (0, (3,)), EXAMPLE, (0, (3,))),
                        beside(machine, machine), behind(machine, machine), records(), top_list(3), band(),
                        turning_points(), runs(), orders(60), count_saying(machine, 1, 4), Works().names(),
-                       replayed([("put", "a", machine)]).journal()):
+                       replayed([("put", "a", machine)]).journal(), spotter((0, 1, 0)), trimmed(machine),
+                       log_of_number(5, 17), number_of_log(((0, 1), (0, 0))), doubling_matters(runs()),
+                       dropping_matters(runs()), swapping_matters(runs()), falling(runs(), 0),
+                       groups_of((machine, EXAMPLE, machine)), read_log("0 1\n"), write_log(log), trace(machine, log),
+                       spots_along(machine, log), type_behind(machine, spots_along(machine, log)),
+                       log_of_spots(machine, spots_along(machine, log))):
             self.assertIsNotNone(result)
             hash(result)
         told = answers(machine, log)
@@ -195,6 +272,11 @@ class Throughout(unittest.TestCase):
         both = behind(EXAMPLE, one_case(TRUE, (), ((HUGE, -1),)))
         self.assertEqual(answers(both, ((0, HUGE), (0, -HUGE))), (((HUGE, HUGE),), ()))
         self.assertEqual(count_saying(both, HUGE, 2), 1)
+        self.assertEqual(trimmed(both), both)
+        self.assertEqual(groups_of((both, EXAMPLE, both)), ((0, 2), (1,)))
+        self.assertIsNotNone(dropping_matters(both))
+        self.assertEqual(falling(turned(both), HUGE), falling(turned(EXAMPLE), 0))
+        self.assertEqual(spots_along(EXAMPLE, ((0, HUGE), (0, HUGE + 1))), ((0, 0), (0, 2)))
 
     def test_what_is_asked_of_one_machine_does_not_hang_on_another_one(self):
         log = ((0, 5), (0, 3), (0, 8))
