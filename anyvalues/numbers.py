@@ -26,7 +26,7 @@ class Beginning:
                 found.append(self._table[left][used][missing])
             else:
                 found.append(self._table[left][used + 1][missing - 1])
-        # A value above all others leaves those between missing; no more can be missing than entries are left.
+        # Each value above all others leaves one more missing than the value before it.
         return found + self._table[left][used + 1][missing:]
 
     def go_on(self, value):
@@ -52,6 +52,7 @@ def _more_endings(used, behind):
     for missing in range(len(behind[used])):
         old = used * behind[used][missing]
         between = missing * behind[used + 1][missing - 1]
+        # A value above all others may leave any number of values between it and them missing, too.
         above = sum(behind[used + 1][missing:])
         found.append(old + between + above)
     return found
